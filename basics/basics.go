@@ -33,3 +33,17 @@ func Words(kind int) int {
 func Operands(node api.Node) []int {
 	return []int{node.A, node.B, node.C}[:Words(node.Kind)]
 }
+
+// HasN: does api name N for a kind?
+func HasN(kind int) bool { return kind == api.KindConst || kind == api.KindCut }
+
+// OfKind: the numbers of the nodes of a kind, rising.
+func OfKind(nodes []api.Node, kind int) []int {
+	var found []int
+	for number, node := range nodes {
+		if node.Kind == kind {
+			found = append(found, number)
+		}
+	}
+	return found
+}

@@ -46,3 +46,20 @@ func TestWordsOfAWidth(t *testing.T) {
 		}
 	}
 }
+
+func TestHasN(t *testing.T) {
+	for kind := -1; kind <= api.Kinds; kind++ {
+		if got := basics.HasN(kind); got != (kind == api.KindConst || kind == api.KindCut) {
+			t.Errorf("kind %d: %v", kind, got)
+		}
+	}
+}
+
+func TestOfKind(t *testing.T) {
+	nodes := []api.Node{{Kind: 2}, {Kind: 3}, {Kind: 2}, {Kind: 99}}
+	for kind, want := range map[int][]int{1: nil, 2: {0, 2}, 3: {1}, 99: {3}} {
+		if got := basics.OfKind(nodes, kind); !slices.Equal(got, want) {
+			t.Errorf("kind %d: %v, want %v", kind, got, want)
+		}
+	}
+}

@@ -111,7 +111,7 @@ func twice(pairs []api.Pair) bool {
 
 // checkMarks checks that states go on, and the Bads and Holds; that something is missing is told ahead of its width.
 func checkMarks(m api.Model) api.Errno {
-	for _, state := range ofKind(m, api.KindState) {
+	for _, state := range basics.OfKind(m.Nodes, api.KindState) {
 		if !slices.ContainsFunc(m.Nexts, func(pair api.Pair) bool { return pair.State == state }) {
 			return api.ErrNone
 		}

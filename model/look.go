@@ -16,14 +16,10 @@ func numbers(m api.Model, wanted func(number int) bool) []int {
 	return found
 }
 
-func ofKind(m api.Model, kind int) []int {
-	return numbers(m, func(number int) bool { return m.Nodes[number].Kind == kind })
-}
-
 // bitsOf: how many bits all nodes of a kind have together.
 func bitsOf(m api.Model, kind int) int {
 	bits := 0
-	for _, number := range ofKind(m, kind) {
+	for _, number := range basics.OfKind(m.Nodes, kind) {
 		bits += m.Nodes[number].Width
 	}
 	return bits

@@ -5,6 +5,7 @@ import (
 	"slices"
 
 	"latchwork/api"
+	"latchwork/basics"
 )
 
 // Check a model.
@@ -31,7 +32,7 @@ func Inputs(m api.Model) ([]int, api.Errno) {
 	if e := Check(m); e != api.OK {
 		return nil, e
 	}
-	return ofKind(m, api.KindInput), api.OK
+	return basics.OfKind(m.Nodes, api.KindInput), api.OK
 }
 
 // States of a model.
@@ -39,7 +40,7 @@ func States(m api.Model) ([]int, api.Errno) {
 	if e := Check(m); e != api.OK {
 		return nil, e
 	}
-	return ofKind(m, api.KindState), api.OK
+	return basics.OfKind(m.Nodes, api.KindState), api.OK
 }
 
 // Cone of some nodes.
