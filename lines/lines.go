@@ -1,7 +1,10 @@
 // Package lines: texts of lines, each with a line feed at its end, of words with one blank between them; for the layers that print and parse.
 package lines
 
-import "strings"
+import (
+	"strconv"
+	"strings"
+)
 
 const (
 	blank    = " "
@@ -25,7 +28,16 @@ func (w *Writer) Line(words ...string) {
 	w.WriteString(lineFeed)
 }
 
-// Next line of a text that is not empty: its words, the text behind it, and whether a line feed ends it. (Where blanks are not one between two words, there are words without a byte.)
+// Numbers writes one line: a word, and numbers.
+func (w *Writer) Numbers(first string, numbers ...int) {
+	words := []string{first}
+	for _, number := range numbers {
+		words = append(words, strconv.Itoa(number))
+	}
+	w.Line(words...)
+}
+
+// Next line of a text: its words, the text behind it, and whether a line feed ends it. (Where blanks are not one between two words, there are words without a byte.)
 func Next(text string) (words []string, rest string, ended bool) {
 	line, rest, ended := strings.Cut(text, lineFeed)
 	return strings.Split(line, blank), rest, ended
@@ -45,4 +57,17 @@ func Number(word string) (int, bool) {
 		number = 10*number + int(digit-'0')
 	}
 	return number, true
+}
+
+// Numbers that words tell, if each of them tells one.
+func Numbers(words []string) ([]int, bool) {
+	var numbers []int
+	for _, word := range words {
+		number, good := Number(word)
+		if !good {
+			return nil, false
+		}
+		numbers = append(numbers, number)
+	}
+	return numbers, true
 }

@@ -1,7 +1,9 @@
-// Package samples: models and numbers for the tests of the layers; no layer uses it.
+// Package samples: models, traces, graphs and numbers for the tests of the layers; no layer uses it.
 package samples
 
 import (
+	"slices"
+
 	"latchwork/api"
 	"latchwork/basics"
 )
@@ -22,6 +24,13 @@ func (d *Draw) Words(m api.Model, kind int) []int {
 		words = append(words, d.Below(1<<m.Nodes[number].Width))
 	}
 	return words
+}
+
+// Altered: a text that is a little other than this one, with one of the pieces in place of some bytes, or of none.
+func (d *Draw) Altered(s string, pieces []string) string {
+	from := d.Below(len(s) + 1)
+	to := min(len(s), from+d.Below(3))
+	return s[:from] + pieces[d.Below(len(pieces))] + s[to:]
 }
 
 // Model that passes its check: with inputs and states of so many bits, and so many nodes beside these.
@@ -46,4 +55,27 @@ func (d *Draw) Model(inputBits, stateBits, others int) api.Model {
 		g.Bads = append(g.Bads, g.ofWidth(1))
 	}
 	return g.Model
+}
+
+// Trace of a model, of so many steps.
+func (d *Draw) Trace(m api.Model, steps int) api.Trace {
+	t := api.Trace{Start: d.Words(m, api.KindState)}
+	for range steps + 1 {
+		t.Inputs = append(t.Inputs, d.Words(m, api.KindInput))
+	}
+	return t
+}
+
+// Graph that passes its check: with so many Ins, and at most so many Ands.
+func (d *Draw) Graph(ins, ands int) api.Graph {
+	g := api.Graph{Ins: ins}
+	for range ands {
+		literals := 2 * (1 + ins + len(g.Ands))
+		a, b := d.Below(literals), d.Below(literals)
+		pair := [2]int{min(a, b), max(a, b)}
+		if pair[0] > 1 && pair[0]/2 != pair[1]/2 && !slices.Contains(g.Ands, pair) {
+			g.Ands = append(g.Ands, pair)
+		}
+	}
+	return g
 }

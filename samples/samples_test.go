@@ -4,8 +4,10 @@ import (
 	"testing"
 
 	"latchwork/api"
+	"latchwork/gates"
 	"latchwork/model"
 	"latchwork/samples"
+	"latchwork/trace"
 )
 
 func TestSamplesPass(t *testing.T) {
@@ -47,5 +49,34 @@ func TestDrawnModelsPass(t *testing.T) {
 	}
 	if begun < 1000 {
 		t.Errorf("just %d states have an Init", begun)
+	}
+}
+
+func TestDrawnTracesPass(t *testing.T) {
+	d := new(samples.Draw)
+	for _, m := range []api.Model{{}, samples.Turn(), samples.Lever(), samples.Kinds()} {
+		for steps := range api.MaxSteps + 1 {
+			x := d.Trace(m, steps)
+			if e := trace.Check(m, x); e != api.OK || len(x.Inputs) != steps+1 {
+				t.Errorf("%v, of %d steps: %d", x, steps, e)
+			}
+		}
+	}
+}
+
+func TestDrawnGraphsPass(t *testing.T) {
+	d := new(samples.Draw)
+	drawn := 0
+	for ins := range 10 {
+		for ands := range 40 {
+			g := d.Graph(ins, ands)
+			if e := gates.Check(g); e != api.OK || g.Ins != ins || len(g.Ands) > ands {
+				t.Errorf("%v: %d", g, e)
+			}
+			drawn += len(g.Ands)
+		}
+	}
+	if drawn < 4000 {
+		t.Errorf("just %d Ands", drawn)
 	}
 }

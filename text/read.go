@@ -68,14 +68,11 @@ func readMark(marks *[]int, words []string) bool {
 
 // readNumbers puts the words' numbers in their places, and tells whether the words are just these.
 func readNumbers(words []string, places ...*int) bool {
-	if len(words) != len(places) {
+	numbers, good := lines.Numbers(words)
+	if !good || len(numbers) != len(places) {
 		return false
 	}
-	for i, word := range words {
-		number, good := lines.Number(word)
-		if !good {
-			return false
-		}
+	for i, number := range numbers {
 		*places[i] = number
 	}
 	return true

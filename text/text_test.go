@@ -283,9 +283,7 @@ func TestNothingElseIsParsed(t *testing.T) {
 	for range 40000 {
 		s := texts[d.Below(len(texts))]
 		for range 1 + d.Below(2) {
-			from := d.Below(len(s) + 1)
-			to := min(len(s), from+d.Below(3))
-			s = s[:from] + bits[d.Below(len(bits))] + s[to:]
+			s = d.Altered(s, bits)
 		}
 		m, n, e := text.Parse(s)
 		if want := wrongLine(forms, s); n != want || n > 0 && e != api.ErrForm {

@@ -18,12 +18,12 @@ func (w *writer) node(number int, node api.Node) {
 
 func (w *writer) pairs(of sort, pairs []api.Pair) {
 	for _, pair := range pairs {
-		w.Line(sortWords[of], strconv.Itoa(pair.State), strconv.Itoa(pair.Node))
+		w.Numbers(sortWords[of], pair.State, pair.Node)
 	}
 }
 
 func (w *writer) marks(of sort, marks []int) {
 	for _, mark := range marks {
-		w.Line(sortWords[of], strconv.Itoa(mark))
+		w.Numbers(sortWords[of], mark)
 	}
 }
