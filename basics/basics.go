@@ -47,3 +47,12 @@ func OfKind(nodes []api.Node, kind int) []int {
 	}
 	return found
 }
+
+// Bits: how many all nodes of a kind have together.
+func Bits(nodes []api.Node, kind int) int {
+	bits := 0
+	for _, number := range OfKind(nodes, kind) {
+		bits += nodes[number].Width
+	}
+	return bits
+}

@@ -63,3 +63,12 @@ func TestOfKind(t *testing.T) {
 		}
 	}
 }
+
+func TestBits(t *testing.T) {
+	nodes := []api.Node{{Kind: 2, Width: 3}, {Kind: 3, Width: 1}, {Kind: 2, Width: 8}}
+	for kind, want := range map[int]int{1: 0, 2: 11, 3: 1} {
+		if got := basics.Bits(nodes, kind); got != want {
+			t.Errorf("kind %d: %d, want %d", kind, got, want)
+		}
+	}
+}

@@ -140,20 +140,9 @@ func TestAndOfNone(t *testing.T) {
 	}
 }
 
-// full: a graph with as many Ands as there may be, all of Ins.
-func full() api.Graph {
-	g := api.Graph{Ins: 1000, Ands: make([][2]int, 0, api.MaxGates)}
-	for a := 2; a < 2002; a++ {
-		for b := a&^1 + 2; b < 2002 && len(g.Ands) < api.MaxGates; b++ {
-			g.Ands = append(g.Ands, [2]int{a, b})
-		}
-	}
-	return g
-}
-
 // F1, F2, P1: no And goes beyond the bound; those that are there, or are none, do.
 func TestAndAtTheBound(t *testing.T) {
-	g := full()
+	g := samples.Broad(api.MaxGates)
 	if e := gates.Check(g); e != api.OK || len(g.Ands) != api.MaxGates {
 		t.Fatalf("%d Ands: %d", len(g.Ands), e)
 	}
@@ -244,19 +233,6 @@ func isSo(g api.Graph, ins []bool, literal int) bool {
 	return so == (literal%2 == 0)
 }
 
-// allIns: whatever some Ins may be.
-func allIns(n int) [][]bool {
-	var all [][]bool
-	for bits := range 1 << n {
-		ins := make([]bool, n)
-		for i := range ins {
-			ins[i] = bits>>i&1 == 1
-		}
-		all = append(all, ins)
-	}
-	return all
-}
-
 // allLiterals of a graph.
 func allLiterals(g api.Graph) []int {
 	var all []int
@@ -272,7 +248,7 @@ func TestEvalOfDrawnGraphs(t *testing.T) {
 	for range 200 {
 		g := d.Graph(d.Below(5), d.Below(30))
 		lits := allLiterals(g)
-		for _, ins := range allIns(g.Ins) {
+		for _, ins := range samples.Values(g.Ins) {
 			v, e := gates.Eval(g, ins, lits)
 			if e != api.OK || len(v) != len(lits) {
 				t.Fatalf("%v, %v: %v %d", g, ins, v, e)
@@ -319,7 +295,7 @@ func TestAndOfDrawnGraphs(t *testing.T) {
 				if e := gates.Check(y); e != api.OK || !slices.Equal(y.Ands[:len(g.Ands)], g.Ands) || len(y.Ands) > len(g.Ands)+1 {
 					t.Fatalf("%v, %d and %d: %v %d", g, a, b, y, e)
 				}
-				for _, ins := range allIns(g.Ins) {
+				for _, ins := range samples.Values(g.Ins) {
 					was, _ := gates.Eval(g, ins, lits)
 					is, e := gates.Eval(y, ins, append(slices.Clone(lits), n))
 					if e != api.OK || !slices.Equal(is[:len(lits)], was) || is[len(lits)] != (was[a] && was[b]) {

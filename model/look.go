@@ -16,15 +16,6 @@ func numbers(m api.Model, wanted func(number int) bool) []int {
 	return found
 }
 
-// bitsOf: how many bits all nodes of a kind have together.
-func bitsOf(m api.Model, kind int) int {
-	bits := 0
-	for _, number := range basics.OfKind(m.Nodes, kind) {
-		bits += m.Nodes[number].Width
-	}
-	return bits
-}
-
 func isNode(m api.Model, number int) bool { return number >= 0 && number < len(m.Nodes) }
 
 // leansOn: the nodes on which one leans at once; a state on what it begins as, and is next.

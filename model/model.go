@@ -18,7 +18,7 @@ func Check(m api.Model) api.Errno {
 			return e
 		}
 	}
-	if bitsOf(m, api.KindInput) > api.MaxInputBits || bitsOf(m, api.KindState) > api.MaxStateBits {
+	if basics.Bits(m.Nodes, api.KindInput) > api.MaxInputBits || basics.Bits(m.Nodes, api.KindState) > api.MaxStateBits {
 		return api.ErrMany
 	}
 	if e := checkPairs(m); e != api.OK {
