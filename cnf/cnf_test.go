@@ -226,34 +226,14 @@ func TestPrintByHand(t *testing.T) {
 	}
 }
 
-// drawn clauses of some variables.
-func drawn(d *samples.Draw) api.Clauses {
-	c := api.Clauses{Vars: 1 + d.Below(5)}
-	for range d.Below(8) {
-		var clause []int
-		for range d.Below(5) {
-			clause = append(clause, (1+d.Below(c.Vars))*(1-2*d.Below(2)))
-		}
-		c.List = append(c.List, clause)
-	}
-	return c
-}
-
 // H3: drawn clauses, by all values; Holds and Print are H3, said once more.
 func TestDrawnClauses(t *testing.T) {
 	d := new(samples.Draw)
 	told := map[bool]int{}
 	for range 1000 {
-		c := drawn(d)
+		c := d.Clauses(1+d.Below(5), d.Below(8), 0, 4)
 		for _, values := range samples.Values(c.Vars) {
-			want := true
-			for _, clause := range c.List {
-				some := false
-				for _, n := range clause {
-					some = some || n > 0 && values[n-1] || n < 0 && !values[-n-1]
-				}
-				want = want && some
-			}
+			want := samples.Hold(c.List, values)
 			told[want]++
 			if got, e := cnf.Holds(c, values); got != want || e != api.OK {
 				t.Fatalf("%v, %v: %v %d", c, values, got, e)
