@@ -235,6 +235,45 @@ func TestSolveAtTheBounds(t *testing.T) {
 	}
 }
 
+// crammed: clauses among which the first one stands so many times that there is room for a proof of so many beside them.
+func crammed(vars, room int, list [][]int) api.Clauses {
+	return of(vars, append(slices.Repeat(list[:1], api.MaxClauses-room-len(list)), list...)...)
+}
+
+// J1: where there is little room beside the clauses, that of few variables can't hold is told, if a proof has room, and else it is unknown.
+func TestSolveWithLittleRoom(t *testing.T) {
+	beside := func(list, other [][]int) [][]int { return slices.Concat(list, other) }
+	fourOf := func(a, b int) [][]int { return [][]int{{a, b}, {a, -b}, {-a, b}, {-a, -b}} }
+	for i, x := range []struct {
+		vars, fuel int
+		list       [][]int
+		shortest   int
+	}{
+		{6, 1000, beside([][]int{{1, 2}, {1, -2}}, fourOf(5, 6)), 2}, // what is learnt of the first two is of no use
+		{6, 1000, beside(samples.Corners(4).List, fourOf(5, 6)), 2},  // neither is that by which the first ones can't hold
+		{6, 1000, beside([][]int{{5}, {-6}}, samples.Corners(4).List), 8},
+		{6, 1000, [][]int{{3, 4, -1}, {-4, -2, 3}, {-1, 4, -3, -2}, {1, 2}, {-4, 2, 3}, {-4, -2, -1, -3}, {-1, -3, 2, 4}, {1, -2}, {-1, -3, 2, -4}}, 3}, // one clause of it is used twice
+		{6, 1000, samples.Corners(6).List, 32},
+		{14, api.MaxFuel, beside(samples.Pigeons(4).List, fourOf(13, 14)), 2},
+	} {
+		for room, want := range map[int]int{x.shortest: api.VerdictNo, x.shortest - 1: api.VerdictUnknown} {
+			c := crammed(x.vars, room, x.list)
+			a, e := search.Solve(c, x.fuel)
+			if a.Verdict != want || e != api.OK {
+				t.Errorf("%d, room for %d: verdict %d, %d, want %d", i, room, a.Verdict, e, want)
+				continue
+			}
+			if is, e := search.Is(c, a); !is || e != api.OK {
+				t.Errorf("%d, room for %d: Is says %v %d", i, room, is, e)
+			}
+		}
+	}
+	// Of pigeons a proof of five is known: each that uses no clause twice takes six.
+	if got := solved(t, crammed(12, 5, samples.Pigeons(4).List), api.MaxFuel); got != api.VerdictNo {
+		t.Errorf("pigeons: verdict %d", got)
+	}
+}
+
 // wide clauses: two of 192 numbers, that fail together by others which are hundreds.
 func wide() [][]int {
 	first, second := []int{401, 402}, []int{401, -402}

@@ -2,12 +2,10 @@ package search
 
 import (
 	"latchwork/api"
+	"latchwork/brief"
 	"latchwork/must"
 	"latchwork/queue"
 )
-
-// few variables have so few values that a search ends soon, whatever its fuel.
-const few = 14
 
 // perFuel is how much of the board's work each unit of fuel is good for.
 const perFuel = 100
@@ -19,9 +17,8 @@ const firstRound = 100
 type searcher struct {
 	*must.Board
 	queue   *queue.Queue
-	vars    int
+	given   api.Clauses
 	most    int     // how much work there may be
-	room    int     // how many clauses a proof may have
 	proof   [][]int // the lessons that were learnt
 	lessons int     // how many there were, those too that were too long to be learnt
 	marks   []int   // for each step: the last lesson that met it, or, as its opposite, the last one in which it is known not to be idle
@@ -34,9 +31,8 @@ func newSearcher(c api.Clauses, fuel int) *searcher {
 	return &searcher{
 		Board:   must.New(c),
 		queue:   queue.New(c.Vars),
-		vars:    c.Vars,
+		given:   c,
 		most:    fuel * perFuel,
-		room:    api.MaxClauses - len(c.List),
 		marks:   make([]int, c.Vars),
 		leaning: make([]int, c.Vars+1),
 		round:   firstRound,
@@ -58,14 +54,24 @@ func (s *searcher) run() api.Answer {
 			return api.Answer{Verdict: api.VerdictYes, Values: s.values()}
 		}
 	}
-	s.proof = append(s.proof, nil)
-	if len(s.proof) > s.room {
-		return api.Answer{Verdict: api.VerdictUnknown}
-	}
-	return api.Answer{Verdict: api.VerdictNo, Proof: s.proof}
+	return s.refused(append(s.proof, nil))
 }
 
-func (s *searcher) isSpent() bool { return s.vars > few && s.Work > s.most }
+// refused, by a proof of all lessons; or by a shorter one, where there is no room for these beside the clauses.
+func (s *searcher) refused(proof [][]int) api.Answer {
+	room := api.MaxClauses - len(s.given.List)
+	fits := len(proof) <= room
+	if !fits {
+		proof, fits = brief.Proof(s.given, room)
+	}
+	if !fits {
+		return api.Answer{Verdict: api.VerdictUnknown}
+	}
+	return api.Answer{Verdict: api.VerdictNo, Proof: proof}
+}
+
+// isSpent: is there no more fuel? With few variables it is not counted: they have so few values that a search ends soon.
+func (s *searcher) isSpent() bool { return s.given.Vars > brief.Few && s.Work > s.most }
 
 // choose a number that is neither, if there is one: as it was last.
 func (s *searcher) choose() bool {
@@ -85,7 +91,7 @@ func (s *searcher) choose() bool {
 }
 
 func (s *searcher) values() []bool {
-	values := make([]bool, s.vars)
+	values := make([]bool, s.given.Vars)
 	for i := range values {
 		values[i] = s.IsSo(i + 1)
 	}
