@@ -36,6 +36,25 @@ func (m *Maker) Root(literal int) {
 	}
 }
 
+// Same: the clauses that a literal, which is not of node 0, is what another one is.
+func (m *Maker) Same(literal, other int) {
+	switch other {
+	case graphs.Yes:
+		m.Root(literal)
+	case graphs.No:
+		m.Root(graphs.Turn(literal))
+	default:
+		m.Add(-Number(literal), Number(other))
+		m.Add(Number(literal), -Number(other))
+	}
+}
+
+// New variable, behind all others.
+func (m *Maker) New() int {
+	m.Vars++
+	return m.Vars
+}
+
 // Number that stands for a literal in a clause; there is none for those of node 0.
 func Number(literal int) int {
 	if graphs.IsTurned(literal) {

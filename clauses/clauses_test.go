@@ -50,3 +50,31 @@ func TestClausesOfAnAnd(t *testing.T) {
 		t.Errorf("%d clauses", len(m.List))
 	}
 }
+
+func TestSame(t *testing.T) {
+	for _, x := range []struct {
+		literal, other int
+		want           [][]int
+	}{
+		{14, 1, [][]int{{7}}},
+		{14, 0, [][]int{{-7}}},
+		{15, 1, [][]int{{-7}}},
+		{15, 0, [][]int{{7}}},
+		{14, 8, [][]int{{-7, 4}, {7, -4}}},
+		{14, 11, [][]int{{-7, -5}, {7, 5}}},
+		{15, 11, [][]int{{7, -5}, {-7, 5}}},
+	} {
+		var m clauses.Maker
+		if m.Same(x.literal, x.other); !same(m.List, x.want) {
+			t.Errorf("%d is %d: %v, want %v", x.literal, x.other, m.List, x.want)
+		}
+	}
+}
+
+func TestNew(t *testing.T) {
+	var m clauses.Maker
+	m.Vars = 5
+	if a, b := m.New(), m.New(); a != 6 || b != 7 || m.Vars != 7 {
+		t.Errorf("new: %d, %d of %d", a, b, m.Vars)
+	}
+}

@@ -13,6 +13,9 @@ const (
 	Yes = 1
 )
 
+// Free stands among literals for a bit that may be as it likes.
+const Free = -1
+
 // Literal of a node, not turned round.
 func Literal(node int) int { return 2 * node }
 
@@ -32,4 +35,15 @@ func Nodes(g api.Graph) int { return 1 + g.Ins + len(g.Ands) }
 func Has(g api.Graph, literals ...int) bool {
 	end := Literal(Nodes(g))
 	return !slices.ContainsFunc(literals, func(literal int) bool { return literal < 0 || literal >= end })
+}
+
+// Besides: how many of some literals are others than this one.
+func Besides(literals []int, literal int) int {
+	count := 0
+	for _, other := range literals {
+		if other != literal {
+			count++
+		}
+	}
+	return count
 }

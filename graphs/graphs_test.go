@@ -40,6 +40,18 @@ func TestHas(t *testing.T) {
 	}
 }
 
+func TestBesides(t *testing.T) {
+	literals := []int{0, 1, 7, 1, -1, 1}
+	for literal, want := range map[int]int{0: 5, 1: 3, -1: 5, 6: 6} {
+		if got := graphs.Besides(literals, literal); got != want {
+			t.Errorf("besides %d: %d, want %d", literal, got, want)
+		}
+	}
+	if graphs.Besides(nil, graphs.Free) != 0 {
+		t.Error("of none there are some")
+	}
+}
+
 func TestMaker(t *testing.T) {
 	given := api.Graph{Ins: 2, Ands: append(make([][2]int, 0, 9), [2]int{2, 4})}
 	m, once := graphs.From(given)

@@ -57,6 +57,33 @@ func (d *Draw) Model(inputBits, stateBits, others int) api.Model {
 	return g.Model
 }
 
+// Reckoner: a model of 12 nodes, with inputs of 2 bits and states of 3, that is reckoned by words of so many bits, from 5 on. It begins as it likes, and is bad if one of these is just so; or it begins as a number, and is bad if it is another one.
+func (d *Draw) Reckoner(width int) api.Model {
+	m := api.Model{Nodes: []api.Node{
+		{Kind: api.KindInput, Width: 2},
+		{Kind: api.KindState, Width: 3},
+		{Kind: api.KindJoin, Width: 5, A: 0, B: 1},
+		{Kind: api.KindConst, Width: width, N: d.Below(1 << width)},
+		{Kind: api.KindWide + d.Below(2), Width: width, A: 2},
+	}}
+	for len(m.Nodes) < 8 {
+		kind := api.KindAdd + d.Below(api.KindShr-api.KindAdd+1)
+		m.Nodes = append(m.Nodes, api.Node{Kind: kind, Width: width, A: len(m.Nodes) - 1, B: 3 + d.Below(len(m.Nodes)-3)})
+	}
+	begin, end := d.Below(8), d.Below(8)
+	m.Nodes = append(m.Nodes,
+		api.Node{Kind: api.KindCut, Width: 3, A: 7, N: d.Below(width - 2)},
+		api.Node{Kind: api.KindConst, Width: 3, N: begin},
+		api.Node{Kind: api.KindConst, Width: 3, N: end},
+		api.Node{Kind: api.KindEq, Width: 1, A: 1, B: 10},
+	)
+	m.Inits, m.Nexts, m.Bads = []api.Pair{{State: 1, Node: 9}}, []api.Pair{{State: 1, Node: 8}}, []int{11}
+	if d.Below(3) == 0 {
+		m.Inits, m.Nodes[10], m.Nodes[11].A = nil, m.Nodes[3], 7
+	}
+	return m
+}
+
 // Trace of a model, of so many steps.
 func (d *Draw) Trace(m api.Model, steps int) api.Trace {
 	t := api.Trace{Start: d.Words(m, api.KindState)}
@@ -78,4 +105,22 @@ func (d *Draw) Graph(ins, ands int) api.Graph {
 		}
 	}
 	return g
+}
+
+// Circuit that passes its check: with so many bits of inputs and of states, and at most so many Ands. What states begin as hangs on nothing.
+func (d *Draw) Circuit(inputs, states, ands int) api.Circuit {
+	c := api.Circuit{Graph: d.Graph(inputs+states, ands), Inputs: inputs, States: states}
+	literals := 2 * (1 + c.Graph.Ins + len(c.Graph.Ands))
+	some := func(count int) []int {
+		var found []int
+		for range count {
+			found = append(found, d.Below(literals))
+		}
+		return found
+	}
+	for range states {
+		c.Inits = append(c.Inits, d.Below(3)-1)
+	}
+	c.Nexts, c.Bads, c.Holds = some(states), some(d.Below(4)), some(d.Below(3))
+	return c
 }

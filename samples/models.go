@@ -53,6 +53,44 @@ func Lever() api.Model {
 	}
 }
 
+// Counter of so many bits that begins as 0, goes up by an input of so many, and is bad when it is a number.
+func Counter(width, input, bad int) api.Model {
+	return api.Model{
+		Nodes: []api.Node{
+			{Kind: api.KindInput, Width: input},           // 0
+			{Kind: api.KindWide, Width: width, A: 0},      // 1
+			{Kind: api.KindState, Width: width},           // 2
+			{Kind: api.KindAdd, Width: width, A: 2, B: 1}, // 3
+			{Kind: api.KindConst, Width: width, N: bad},   // 4
+			{Kind: api.KindEq, Width: 1, A: 2, B: 4},      // 5
+			{Kind: api.KindConst, Width: width},           // 6
+		},
+		Inits: []api.Pair{{State: 2, Node: 6}},
+		Nexts: []api.Pair{{State: 2, Node: 3}},
+		Bads:  []int{5},
+	}
+}
+
+// Sums: two states of so many bits that begin as 0, of which one goes up by as much as the other one goes down. It is bad when they are not 0 together any more, which never comes.
+func Sums(width int) api.Model {
+	return api.Model{
+		Nodes: []api.Node{
+			{Kind: api.KindInput, Width: width},           // 0
+			{Kind: api.KindState, Width: width},           // 1
+			{Kind: api.KindState, Width: width},           // 2
+			{Kind: api.KindAdd, Width: width, A: 1, B: 0}, // 3
+			{Kind: api.KindSub, Width: width, A: 2, B: 0}, // 4
+			{Kind: api.KindAdd, Width: width, A: 1, B: 2}, // 5
+			{Kind: api.KindConst, Width: width},           // 6
+			{Kind: api.KindEq, Width: 1, A: 5, B: 6},      // 7
+			{Kind: api.KindNot, Width: 1, A: 7},           // 8
+		},
+		Inits: []api.Pair{{State: 1, Node: 6}, {State: 2, Node: 6}},
+		Nexts: []api.Pair{{State: 1, Node: 3}, {State: 2, Node: 4}},
+		Bads:  []int{8},
+	}
+}
+
 // Kinds: a model with a node of each kind, in their order.
 func Kinds() api.Model {
 	m := api.Model{Nodes: []api.Node{
