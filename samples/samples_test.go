@@ -50,6 +50,12 @@ func TestDrawnModelsPass(t *testing.T) {
 			t.Fatalf("%v: %d", m, model.Check(m))
 		}
 	}
+	for range 200 {
+		width := 2 + d.Below(4)
+		if m := d.Shuffler(width, 1+d.Below(width), 1+d.Below(4)); model.Check(m) != api.OK {
+			t.Fatalf("%v: %d", m, model.Check(m))
+		}
+	}
 	for kind := api.KindConst; kind < api.Kinds; kind++ {
 		if kinds[kind] < 100 {
 			t.Errorf("just %d nodes of kind %d", kinds[kind], kind)
