@@ -5,11 +5,14 @@ import (
 	"reflect"
 	"testing"
 
+	"latchwork/apart"
 	"latchwork/api"
+	"latchwork/blast"
 	"latchwork/decide"
 	"latchwork/explore"
 	"latchwork/samples"
 	"latchwork/trace"
+	"latchwork/unroll"
 )
 
 // decided: what Decide tells, held to N1: a trace that is bad, of as many steps as are told, comes with EndUnsafe, and nothing with anything else.
@@ -212,6 +215,75 @@ func TestDecideTooLong(t *testing.T) {
 	}
 	if got := decided(t, m, 40, api.MaxFuel); got.End != api.EndUnsafe || got.Deep != fewest {
 		t.Errorf("%v, want %d", got, fewest)
+	}
+}
+
+// N1: where it takes too long to look for a trace of all these steps, fewer may do to say that it is safe.
+func TestDecideByFewerSteps(t *testing.T) {
+	m := samples.Sums(4)
+	did := 0
+	for fuel := 1; fuel <= api.MaxFuel; fuel *= 2 {
+		_, _, e := unroll.Find(m, 40, fuel)
+		got := decided(t, m, 40, fuel)
+		if got.End == api.EndUnsafe || got.End == api.EndSafe && got.Deep != 1 || e == api.OK && got.End != api.EndSafe {
+			t.Errorf("fuel %d: %v", fuel, got)
+		}
+		if e == api.ErrFuel && got.End == api.EndSafe {
+			did++
+		}
+	}
+	if did == 0 {
+		t.Error("fewer steps never do")
+	}
+}
+
+// hidden: a state of 2 bits that begins as 0, and stays so, but comes to 1, which is bad, by few inputs, that are hard to reckon. 2 comes to 1, too, and nothing to 2.
+func hidden() api.Model {
+	return api.Model{
+		Nodes: []api.Node{
+			{Kind: api.KindInput, Width: 6},
+			{Kind: api.KindState, Width: 2},
+			{Kind: api.KindWide, Width: 8, A: 0},
+			{Kind: api.KindMul, Width: 8, A: 2, B: 2},
+			{Kind: api.KindMul, Width: 8, A: 3, B: 2},
+			{Kind: api.KindRem, Width: 8, A: 4, B: 3},
+			{Kind: api.KindConst, Width: 8, N: 16},
+			{Kind: api.KindEq, Width: 1, A: 5, B: 6},
+			{Kind: api.KindWide, Width: 2, A: 7},
+			{Kind: api.KindConst, Width: 2},
+			{Kind: api.KindConst, Width: 2, N: 1},
+			{Kind: api.KindConst, Width: 2, N: 3},
+			{Kind: api.KindEq, Width: 1, A: 1, B: 9},
+			{Kind: api.KindEq, Width: 1, A: 1, B: 11},
+			{Kind: api.KindIf, Width: 2, A: 13, B: 11, C: 10},
+			{Kind: api.KindIf, Width: 2, A: 12, B: 8, C: 14},
+			{Kind: api.KindEq, Width: 1, A: 1, B: 10},
+		},
+		Inits: []api.Pair{{State: 1, Node: 9}},
+		Nexts: []api.Pair{{State: 1, Node: 15}},
+		Bads:  []int{16},
+	}
+}
+
+// N1, N3: where it takes too long to look for a trace, but not to see that one can't come to what is bad by more steps, it is not said to be safe.
+func TestDecideWhatIsHidden(t *testing.T) {
+	m := hidden()
+	c, e := blast.Blast(m)
+	if fewest := samples.MachineOf(m).Fewest(); fewest != 1 || e != api.OK {
+		t.Fatalf("bad by %d steps, %d", fewest, e)
+	}
+	showed := 0
+	for fuel := 1; fuel <= api.MaxFuel; fuel += 1 + fuel/3 {
+		_, _, e := unroll.Find(m, 4, fuel)
+		if got := decided(t, m, 4, fuel); got.End == api.EndSafe || e == api.OK && (got.End != api.EndUnsafe || got.Deep != 1) {
+			t.Errorf("fuel %d: %v", fuel, got)
+		}
+		if e == api.ErrFuel && apart.Approach(c, 2, fuel) == api.VerdictNo {
+			showed++
+		}
+	}
+	if showed == 0 {
+		t.Error("it is never hidden")
 	}
 }
 

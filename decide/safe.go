@@ -1,24 +1,27 @@
 package decide
 
 import (
+	"latchwork/apart"
 	"latchwork/api"
-	"latchwork/prove"
 )
 
-// safeBy the fewest steps by which a model is safe, if these are at most so many, and it is known, for all fewer ones too, whether it is safe by them.
-func safeBy(m api.Model, steps, fuel int) (by int, is bool) {
-	// What is safe by some steps is safe by more, so that one answer does where it is safe by none.
-	if safe, e := prove.Prove(m, steps, fuel); e == api.OK && !safe {
-		return 0, false
+// farBy: the fewest steps, of at most so many, by which one can't approach what is bad, if they are known. If there is no bad trace of fewer steps, the model is safe by these. (Prove would look for such a trace each time it is asked.)
+func farBy(c api.Circuit, steps, fuel int) (by int, known bool) {
+	approach := func(n int) int { return apart.Approach(c, n, fuel) }
+	// Whoever approaches by some steps does by fewer, too, so that not all need be asked for.
+	near, by := 0, 1
+	verdict := approach(by)
+	for verdict == api.VerdictYes && by < steps {
+		near, by = by, min(2*by, steps)
+		verdict = approach(by)
 	}
-	for by = 1; by <= steps; by++ {
-		safe, e := prove.Prove(m, by, fuel)
-		if e != api.OK {
-			break
-		}
-		if safe {
-			return by, true
+	for n := near + 1; n < by; n++ {
+		switch approach(n) {
+		case api.VerdictNo:
+			return n, true
+		case api.VerdictUnknown:
+			return 0, false
 		}
 	}
-	return 0, false
+	return by, verdict == api.VerdictNo
 }
